@@ -1,0 +1,1 @@
+"""Trialfield: plans of trials whose effects can be told apart."""
