@@ -78,6 +78,35 @@ class Language(unittest.TestCase):
                     self.assertTrue(node.module.startswith("trialfield."), where)
                     self.assertEqual(node.level, 0, where)
 
+    def test_comprehensions_and_is(self):
+        for path in package_files():
+            for node in nodes_of(path):
+                where = (path.name, getattr(node, "lineno", None))
+                if isinstance(node, ast.ListComp):
+                    self.assertEqual(len(node.generators), 1, where)
+                    self.assertLessEqual(len(node.generators[0].ifs), 1, where)
+                if isinstance(node, ast.Compare):
+                    for operator, right in zip(node.ops, node.comparators):
+                        if isinstance(operator, (ast.Is, ast.IsNot)):
+                            self.assertIn(getattr(right, "value", "another"), (None, True, False), where)
+
+    def test_names_are_drawn_from_the_file_that_defines_them_and_kept(self):
+        for path in package_files():
+            drawn = []
+            for node in nodes_of(path):
+                if isinstance(node, ast.ImportFrom):
+                    source = PACKAGE / (node.module.split(".")[1] + ".py")
+                    for alias in node.names:
+                        defined = re.compile(r"^(def |class )?" + alias.name + r"\b", re.MULTILINE)
+                        self.assertRegex(source.read_text(encoding="ascii"), defined, path.name)
+                        drawn.append(alias.asname or alias.name)
+            for node in nodes_of(path):
+                where = (path.name, getattr(node, "lineno", None))
+                if isinstance(node, ast.Name) and isinstance(node.ctx, ast.Store):
+                    self.assertNotIn(node.id, drawn, where)
+                if isinstance(node, ast.arg):
+                    self.assertNotIn(node.arg, drawn, where)
+
     def test_names_and_methods(self):
         own = {n.name for path in package_files() for n in nodes_of(path) if isinstance(n, ast.FunctionDef)}
         python_own = set(dir(builtins)) - BUILT_IN

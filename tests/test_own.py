@@ -4,7 +4,12 @@ import unittest
 from copy import deepcopy
 
 from helper import many_tables
+from trialfield.errors import NoEffect
+from trialfield.models import columns_of, table_of
+from trialfield.plans import all_trials, even_to, least_trials
 from trialfield.tables import determinant, rank, reduced, solved
+from trialfield.telling import spread, telling
+from trialfield.words import block_of, comes_to, cut, hides, least_word, lost, span
 
 
 def lists_within(value):
@@ -20,17 +25,6 @@ def spoil(value):
     for part in lists_within(value):
         part.append("spoilt")
         part[0] = "spoilt"
-
-
-def questions(table, column):
-    asked = [
-        lambda: reduced(table),
-        lambda: rank(table),
-        lambda: solved(table, column),
-    ]
-    if len(table) == len(table[0]):
-        asked.append(lambda: determinant(table))
-    return asked
 
 
 def own_tables():
@@ -49,47 +43,94 @@ def own_columns(table):
     ]
 
 
+def asked_of_tables():
+    asked = []
+    for table in own_tables():
+        asked += [(reduced, (table,)), (rank, (table,))]
+        asked += [(solved, (table, column)) for column in own_columns(table)]
+        if len(table) == len(table[0]):
+            asked.append((determinant, (table,)))
+    return asked
+
+
+def asked_of_plans():
+    whole = all_trials([2, 3, 2])
+    plans = ([(1, 2, 0)], whole, whole[1:], [(0, 0, 1), (1, 1, 0)] * 3)
+    asked = [(all_trials, (levels,)) for levels in ([2], [3, 2], [2, 5, 3])]
+    asked += [(even_to, (plan, [2, 3, 2], t)) for plan in plans for t in (1, 2, 3)]
+    return asked + [(least_trials, ([2, 3, 2], u)) for u in range(4)]
+
+
+def asked_of_words():
+    asked = [(comes_to, (3, (1, 2, 0), (2, 2, 1)))]
+    for words in ([], [(0, 0, 0)], [(1, 2, 0)], [(1, 2, 0), (2, 1, 0), (0, 1, 1)]):
+        asked += [(span, (3, 3, words)), (least_word, (3, 3, words)), (hides, (3, words, (0, 0, 1)))]
+        asked += [(cut, (3, 3, [(word, rest) for word in words])) for rest in (0, 1)]
+        asked.append((block_of, (3, words, (2, 1, 1))))
+        asked += [(lost, (3, 3, words, block_words)) for block_words in ([], [(1, 2, 0)], [(1, 1, 1), (0, 0, 1)])]
+    return asked
+
+
+def asked_of_models():
+    asked = []
+    for model in ([()], [(0,)], [(1,), (), (0, 2)], [(0, 1, 2), (0,)]):
+        asked.append((columns_of, ([2, 3, 2], model)))
+        asked += [(table_of, ([2, 3, 2], plan, model)) for plan in ([(1, 2, 0)], all_trials([2, 3, 2]))]
+    return asked
+
+
+def asked_of_telling():
+    asked = []
+    for rows in ([[1]], [[0]], [[1, 0], [0, 1]], [[1, 1], [1, 1]], [[1, 2, 3]], [[1], [2], [2]]):
+        width = len(rows[0])
+        combinations = ([0] * width, [1] * width, [1] + [0] * (width - 1), rows[0])
+        asked += [(telling, (rows, combination)) for combination in combinations]
+    return asked + [(spread, (weights,)) for weights in ([(1, 2)], [(0, 1), (-1, 3)])]
+
+
+def all_asked():
+    return asked_of_tables() + asked_of_plans() + asked_of_words() + asked_of_models() + asked_of_telling()
+
+
 class Own(unittest.TestCase):
     def test_what_is_handed_in_stays_the_same(self):
-        for table in own_tables():
-            for column in own_columns(table):
-                before = deepcopy((table, column))
-                for question in questions(table, column):
-                    question()
-                    self.assertEqual((table, column), before)
+        for function, handed in all_asked():
+            before = deepcopy(handed)
+            function(*handed)
+            self.assertEqual(handed, before)
+
+    def test_what_is_handed_in_to_a_refusal_stays_the_same(self):
+        words = [(1, 1, 0), (0, 1, 1)]
+        with self.assertRaises(NoEffect):
+            hides(2, words, (1, 0, 1))
+        self.assertEqual(words, [(1, 1, 0), (0, 1, 1)])
 
     def test_no_list_given_was_handed_in_or_is_given_twice(self):
-        for table in own_tables():
-            for column in own_columns(table):
-                handed = [id(part) for part in lists_within((table, column))]
-                for question in questions(table, column):
-                    given = question()
-                    named = [id(part) for part in lists_within(given)]
-                    self.assertEqual(len(named), len(set(named)))
-                    self.assertFalse(set(named) & set(handed))
+        for function, handed in all_asked():
+            given = function(*handed)
+            named = [id(part) for part in lists_within(given)]
+            self.assertEqual(len(named), len(set(named)))
+            self.assertFalse(set(named) & {id(part) for part in lists_within(handed)})
 
     def test_a_change_of_what_was_given_changes_nothing_else(self):
-        for table in own_tables():
-            for column in own_columns(table):
-                before = deepcopy((table, column))
-                for question in questions(table, column):
-                    first = question()
-                    kept = deepcopy(first)
-                    second = question()
-                    spoil(first)
-                    self.assertEqual(second, kept)
-                    self.assertEqual(question(), kept)
-                    self.assertEqual((table, column), before)
+        for function, handed in all_asked():
+            before = deepcopy(handed)
+            first = function(*handed)
+            kept = deepcopy(first)
+            second = function(*handed)
+            spoil(first)
+            self.assertEqual(second, kept)
+            self.assertEqual(function(*handed), kept)
+            self.assertEqual(handed, before)
 
     def test_a_change_of_what_was_handed_in_changes_no_answer(self):
-        for table in own_tables():
-            for column in own_columns(table):
-                for question in range(3):
-                    handed = deepcopy((table, column))
-                    given = questions(handed[0], handed[1])[question]()
-                    kept = deepcopy(given)
-                    spoil(handed)
-                    self.assertEqual(given, kept)
+        for function, handed in all_asked():
+            # A list that is handed in twice would be spoilt twice: each is copied by itself.
+            copied = tuple(deepcopy(part) for part in handed)
+            given = function(*copied)
+            kept = deepcopy(given)
+            spoil(copied)
+            self.assertEqual(given, kept)
 
 
 if __name__ == "__main__":
