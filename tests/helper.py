@@ -1,9 +1,28 @@
 """What several tests share: tables made by a fixed seed, and the same things reckoned another way."""
 
+from collections import Counter
 from fractions import Fraction
-from itertools import permutations
-from math import gcd
+from itertools import combinations, permutations, product
+from math import gcd, prod
 from random import Random
+from unittest import TestCase
+
+# The values of each contrast at each step, written out: CONTRASTS[s][k - 1].
+CONTRASTS = {
+    2: [[1, -1]],
+    3: [[1, -1, 0], [1, 1, -2]],
+    4: [[1, -1, 0, 0], [1, 1, -2, 0], [1, 1, 1, -3]],
+    5: [[1, -1, 0, 0, 0], [1, 1, -2, 0, 0], [1, 1, 1, -3, 0], [1, 1, 1, 1, -4]],
+    6: [[1, -1, 0, 0, 0, 0], [1, 1, -2, 0, 0, 0], [1, 1, 1, -3, 0, 0], [1, 1, 1, 1, -4, 0], [1, 1, 1, 1, 1, -5]],
+    7: [
+        [1, -1, 0, 0, 0, 0, 0],
+        [1, 1, -2, 0, 0, 0, 0],
+        [1, 1, 1, -3, 0, 0, 0],
+        [1, 1, 1, 1, -4, 0, 0],
+        [1, 1, 1, 1, 1, -5, 0],
+        [1, 1, 1, 1, 1, 1, -6],
+    ],
+}
 
 
 def is_whole(number):
@@ -19,6 +38,14 @@ def is_fraction(value):
         and value[1] > 0
         and gcd(value[0], value[1]) == 1
     )
+
+
+class FractionCase(TestCase):
+    def assert_fractions(self, numbers, count):
+        self.assertIsInstance(numbers, list)
+        self.assertEqual(len(numbers), count)
+        for number in numbers:
+            self.assertTrue(is_fraction(number), number)
 
 
 def exact(value):
@@ -91,6 +118,82 @@ def many_tables():
     tables.append(table_of(made_rows(random, 6, 6, long_fraction)))
     tables.append(table_of(made_rows(random, 4, 7, long_fraction)))
     return tables
+
+
+def small(random):
+    return random.randint(-5, 5)
+
+
+def sparse(random):
+    return random.choice([0, 0, 0, 1, -1])
+
+
+def signs(random):
+    return random.choice([1, -1])
+
+
+def long(random):
+    return random.randint(-(10 ** 20) + 1, 10 ** 20 - 1)
+
+
+def whole_of_rank(random, height, width, most):
+    return [[int(number) for number in row] for row in of_rank(random, height, width, most, small)]
+
+
+def whole_tables():
+    """Tables of whole numbers: of one row and of one column, of noughts, of lesser rank, with columns alike."""
+    random = Random(16)
+    tables = []
+    for height, width in ((1, 1), (1, 4), (4, 1), (2, 2), (3, 3), (5, 3), (3, 5), (6, 4), (4, 6), (9, 2), (2, 9)):
+        for number in (small, sparse, signs):
+            tables.append(made_rows(random, height, width, number))
+        for most in range(1, min(height, width)):
+            tables.append(whole_of_rank(random, height, width, most))
+        tables.append([[0] * width for row in range(height)])
+    alike = made_rows(random, 4, 3, small)
+    tables.append([row for row in alike for turn in range(2)])
+    tables.append([row + row for row in alike])
+    tables.append([row + [0] for row in alike] + [[0] * 4])
+    tables.append(made_rows(random, 5, 3, long))
+    tables.append(made_rows(random, 3, 5, long))
+    tables.append(whole_of_rank(random, 12, 12, 7))
+    return tables
+
+
+def laid_over(rows):
+    return [list(column) for column in zip(*rows)]
+
+
+def full(levels):
+    """All trials of the levels, in order."""
+    return [tuple(trial) for trial in product(*[range(steps) for steps in levels])]
+
+
+def plainly_even_in(plan, levels, columns):
+    counts = Counter(tuple(trial[column] for column in columns) for trial in plan)
+    return len({counts[choice] for choice in full([levels[column] for column in columns])}) == 1
+
+
+def plainly_even_to(plan, levels, t):
+    return all(plainly_even_in(plan, levels, columns) for columns in combinations(range(len(levels)), t))
+
+
+def plain_columns(levels, model):
+    columns = []
+    for effect in model:
+        for numbers in product(*[range(1, levels[thing]) for thing in effect]):
+            columns.append((effect, numbers))
+    return columns
+
+
+def plain_value(levels, trial, column):
+    effect, numbers = column
+    return prod(CONTRASTS[levels[thing]][k - 1][trial[thing]] for thing, k in zip(effect, numbers))
+
+
+def plain_table(levels, plan, model):
+    columns = plain_columns(levels, model)
+    return [[plain_value(levels, trial, column) for column in columns] for trial in plan]
 
 
 def plainly_reduced(rows):

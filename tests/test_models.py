@@ -2,30 +2,12 @@
 
 import unittest
 from inspect import signature
-from itertools import combinations, product
-from math import prod
+from itertools import combinations
 from random import Random
 
-from helper import is_whole
+from helper import CONTRASTS, is_whole, plain_columns, plain_table
 from trialfield.models import columns_of, table_of
 from trialfield.plans import all_trials
-
-# The values of each contrast at each step, written out: CONTRASTS[s][k - 1].
-CONTRASTS = {
-    2: [[1, -1]],
-    3: [[1, -1, 0], [1, 1, -2]],
-    4: [[1, -1, 0, 0], [1, 1, -2, 0], [1, 1, 1, -3]],
-    5: [[1, -1, 0, 0, 0], [1, 1, -2, 0, 0], [1, 1, 1, -3, 0], [1, 1, 1, 1, -4]],
-    6: [[1, -1, 0, 0, 0, 0], [1, 1, -2, 0, 0, 0], [1, 1, 1, -3, 0, 0], [1, 1, 1, 1, -4, 0], [1, 1, 1, 1, 1, -5]],
-    7: [
-        [1, -1, 0, 0, 0, 0, 0],
-        [1, 1, -2, 0, 0, 0, 0],
-        [1, 1, 1, -3, 0, 0, 0],
-        [1, 1, 1, 1, -4, 0, 0],
-        [1, 1, 1, 1, 1, -5, 0],
-        [1, 1, 1, 1, 1, 1, -6],
-    ],
-}
 
 CASES = (
     ([2], [()]),
@@ -45,19 +27,6 @@ CASES = (
     ([2] * 8, [(7,), (0, 7), (1, 3, 5), (), (6,)]),
     ([2, 3, 4, 5, 7, 2, 2, 3], [(5, 6, 7), (0, 3), ()]),
 )
-
-
-def plain_columns(levels, model):
-    columns = []
-    for effect in model:
-        for numbers in product(*[range(1, levels[thing]) for thing in effect]):
-            columns.append((effect, numbers))
-    return columns
-
-
-def plain_value(levels, trial, column):
-    effect, numbers = column
-    return prod(CONTRASTS[levels[thing]][k - 1][trial[thing]] for thing, k in zip(effect, numbers))
 
 
 def some_plan(levels):
@@ -113,8 +82,7 @@ class TableOf(unittest.TestCase):
         for row in answer:
             self.assertIsInstance(row, list)
             self.assertTrue(all(is_whole(number) for number in row))
-        columns = plain_columns(levels, model)
-        self.assertEqual(answer, [[plain_value(levels, trial, column) for column in columns] for trial in plan])
+        self.assertEqual(answer, plain_table(levels, plan, model))
 
     def test_examples(self):
         self.assertEqual(table_of([2], [(0,), (1,)], [(), (0,)]), [[1, 1], [1, -1]])

@@ -4,9 +4,13 @@ import unittest
 from copy import deepcopy
 
 from helper import many_tables
+from trialfield.arrays import doubled, is_right, mirrored, of_prime, plan_of, spun
 from trialfield.errors import NoEffect
+from trialfield.fits import fit, squares
 from trialfield.models import columns_of, table_of
 from trialfield.plans import all_trials, even_to, least_trials
+from trialfield.quick import results_of, sums_of
+from trialfield.sorts import other_side, pairs_told, turned
 from trialfield.tables import determinant, rank, reduced, solved
 from trialfield.telling import spread, telling
 from trialfield.words import block_of, comes_to, cut, hides, least_word, lost, span
@@ -88,8 +92,44 @@ def asked_of_telling():
     return asked + [(spread, (weights,)) for weights in ([(1, 2)], [(0, 1), (-1, 3)])]
 
 
+def asked_of_fits():
+    asked = []
+    for rows in ([[1]], [[0]], [[1, 0], [0, 1]], [[1, 1], [1, 1]], [[1, 2, 3]], [[1], [2], [2]]):
+        asked += [(fit, (rows, results)) for results in ([0] * len(rows), list(range(1, len(rows) + 1)))]
+    for model in ([()], [(0,)], [(1,), (), (0, 1)]):
+        asked += [(squares, ([2, 3], plan, model, [7] * len(plan))) for plan in ([(1, 2)], all_trials([2, 3]))]
+    return asked
+
+
+def asked_of_quick():
+    asked = []
+    for levels in ([2], [3], [2, 3], [2, 2, 2]):
+        count = len(all_trials(levels))
+        for numbers in ([0] * count, list(range(count)), [1] + [0] * (count - 1)):
+            asked += [(sums_of, (levels, numbers)), (results_of, (levels, numbers))]
+    return asked
+
+
+def asked_of_arrays():
+    asked = [(of_prime, (p,)) for p in (3, 7, 11, 19)]
+    for table in ([[1]], [[-1]], [[1, 1], [1, -1]], [[-1, 1], [1, 1]], of_prime(3)):
+        asked += [(is_right, (table,)), (doubled, (table,))]
+        if len(table) > 1:
+            asked.append((plan_of, (table,)))
+    asked += [(mirrored, (plan,)) for plan in ([(0,)], [(0, 1), (1, 1)], all_trials([2, 2]))]
+    return asked + [(spun, (3, generators)) for generators in ([[0]], [[1]], [[1, 0], [0, 1]], [[1, 2], [2, 1], [0, 1]])]
+
+
+def asked_of_sorts():
+    asked = []
+    for v, blocks in ((2, [(0,)]), (3, [(0, 1), (1, 2), (0, 2)]), (4, [(0, 1), (2, 3), (0, 1)]), (7, [(0, 1, 3)])):
+        asked += [(pairs_told, (v, blocks)), (turned, (v, blocks)), (other_side, (v, blocks))]
+    return asked + [(pairs_told, (1, [(0,)])), (turned, (1, [(0,)]))]
+
+
 def all_asked():
-    return asked_of_tables() + asked_of_plans() + asked_of_words() + asked_of_models() + asked_of_telling()
+    asked = asked_of_tables() + asked_of_plans() + asked_of_words() + asked_of_models() + asked_of_telling()
+    return asked + asked_of_fits() + asked_of_quick() + asked_of_arrays() + asked_of_sorts()
 
 
 class Own(unittest.TestCase):

@@ -3,29 +3,16 @@
 import unittest
 from collections import Counter
 from inspect import signature
-from itertools import combinations, product
+from itertools import combinations
 from math import prod
 from random import Random
 
-from helper import is_whole
+from helper import full, is_whole, plainly_even_to
 from trialfield.plans import all_trials, even_to, least_trials
 
 SOME_LEVELS = (
     [2], [3], [7], [2, 2], [2, 3], [3, 2], [7, 7], [2, 3, 4], [5, 2, 3], [4, 2, 2, 2], [2, 2, 2, 2, 2], [3, 3, 3, 3],
 )
-
-
-def full(levels):
-    return [tuple(trial) for trial in product(*[range(steps) for steps in levels])]
-
-
-def plainly_even_in(plan, levels, columns):
-    counts = Counter(tuple(trial[column] for column in columns) for trial in plan)
-    return len({counts[choice] for choice in full([levels[column] for column in columns])}) == 1
-
-
-def plainly_even_to(plan, levels, t):
-    return all(plainly_even_in(plan, levels, columns) for columns in combinations(range(len(levels)), t))
 
 
 def by_two(rows, generators):

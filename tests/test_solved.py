@@ -6,38 +6,14 @@ from inspect import signature
 from random import Random
 
 from helper import (
-    dot,
-    exact,
-    exact_rows,
-    is_fraction,
-    lead_of,
-    long_fraction,
-    long_whole,
-    made_rows,
-    many_tables,
-    of_rank,
-    plainly_reduced,
-    small_number,
-    sparse_number,
-    summed_determinant,
-    table_of,
-    told,
+    FractionCase, dot, exact, exact_rows, is_fraction, laid_over, lead_of, long_fraction, long_whole, made_rows,
+    many_tables, of_rank, plainly_reduced, small_number, sparse_number, summed_determinant, table_of, told,
     whole_number,
 )
 from trialfield.tables import determinant, solved
 
 
-def columns_of(rows):
-    return [list(column) for column in zip(*rows)]
-
-
-class Solved(unittest.TestCase):
-    def assert_fractions(self, numbers, count):
-        self.assertIsInstance(numbers, list)
-        self.assertEqual(len(numbers), count)
-        for number in numbers:
-            self.assertTrue(is_fraction(number), number)
-
+class Solved(FractionCase):
     def assert_found(self, table, column):
         answer = solved(table, column)
         self.assertIsInstance(answer, tuple)
@@ -57,7 +33,7 @@ class Solved(unittest.TestCase):
         self.assertEqual((len(answer), answer[0]), (2, "never"))
         self.assert_fractions(answer[1], len(table))
         y = [exact(number) for number in answer[1]]
-        for line in columns_of(exact_rows(table)):
+        for line in laid_over(exact_rows(table)):
             self.assertEqual(dot(y, line), 0)
         self.assertEqual(dot(y, [exact(number) for number in column]), 1)
 

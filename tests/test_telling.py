@@ -6,57 +6,14 @@ from inspect import signature
 from itertools import combinations
 from random import Random
 
-from helper import dot, exact, is_fraction, lead_of, long_fraction, plainly_reduced, told
+from helper import (
+    FractionCase, dot, exact, is_fraction, laid_over, lead_of, long, long_fraction, made_rows, plainly_reduced, signs,
+    small, told, whole_tables,
+)
 from trialfield.models import table_of
 from trialfield.plans import all_trials
 from trialfield.telling import spread, telling
 from trialfield.words import cut
-
-
-def small(random):
-    return random.randint(-5, 5)
-
-
-def sparse(random):
-    return random.choice([0, 0, 0, 1, -1])
-
-
-def signs(random):
-    return random.choice([1, -1])
-
-
-def long(random):
-    return random.randint(-(10 ** 20) + 1, 10 ** 20 - 1)
-
-
-def made(random, height, width, number):
-    return [[number(random) for column in range(width)] for row in range(height)]
-
-
-def of_rank(random, height, width, most):
-    """Rows and columns that are sums of multiples of `most` of them."""
-    first = made(random, height, most, small)
-    second = made(random, most, width, small)
-    return [[sum(row[k] * second[k][column] for k in range(most)) for column in range(width)] for row in first]
-
-
-def some_tables():
-    random = Random(16)
-    tables = []
-    for height, width in ((1, 1), (1, 4), (4, 1), (2, 2), (3, 3), (5, 3), (3, 5), (6, 4), (4, 6), (9, 2), (2, 9)):
-        for number in (small, sparse, signs):
-            tables.append(made(random, height, width, number))
-        for most in range(1, min(height, width)):
-            tables.append(of_rank(random, height, width, most))
-        tables.append([[0] * width for row in range(height)])
-    alike = made(random, 4, 3, small)
-    tables.append([row for row in alike for turn in range(2)])
-    tables.append([row + row for row in alike])
-    tables.append([row + [0] for row in alike] + [[0] * 4])
-    tables.append(made(random, 5, 3, long))
-    tables.append(made(random, 3, 5, long))
-    tables.append(of_rank(random, 12, 12, 7))
-    return tables
 
 
 def model_tables():
@@ -85,10 +42,6 @@ def combinations_for(random, rows):
     return asked
 
 
-def laid_over(rows):
-    return [list(column) for column in zip(*rows)]
-
-
 def plain_rank(rows):
     return len([row for row in plainly_reduced([[Fraction(n) for n in row] for row in rows]) if any(row)])
 
@@ -113,13 +66,7 @@ def squared(weights):
     return sum((weight * weight for weight in weights), Fraction(0))
 
 
-class Telling(unittest.TestCase):
-    def assert_fractions(self, numbers, count):
-        self.assertIsInstance(numbers, list)
-        self.assertEqual(len(numbers), count)
-        for number in numbers:
-            self.assertTrue(is_fraction(number), number)
-
+class Telling(FractionCase):
     def assert_told(self, rows, combination):
         answer = telling(rows, combination)
         self.assertIsInstance(answer, tuple)
@@ -184,13 +131,13 @@ class Telling(unittest.TestCase):
         self.assert_hidden([[1, 1, 0], [0, 1, 1]], [1, 0, 1])
 
     def test_the_combination_of_noughts(self):
-        for rows in some_tables() + model_tables():
+        for rows in whole_tables() + model_tables():
             self.assertEqual(telling(rows, [0] * len(rows[0])), ("told", [(0, 1)] * len(rows)))
 
     def test_many_tables(self):
         random = Random(160)
         answers = []
-        for rows in some_tables() + model_tables():
+        for rows in whole_tables() + model_tables():
             for combination in combinations_for(random, rows):
                 answers.append(self.assert_answer(rows, combination))
         self.assertGreater(answers.count("told"), 200)
@@ -205,7 +152,7 @@ class Telling(unittest.TestCase):
     def test_rows_that_are_alike_share_their_weight(self):
         random = Random(161)
         for turn in range(10):
-            rows = made(random, 5, 3, small)
+            rows = made_rows(random, 5, 3, small)
             combination = [sum(row[k] for row in rows) for k in range(3)]
             weights = telling(rows + [list(rows[0])], combination)[1]
             self.assertEqual(weights[0], weights[5])
@@ -214,7 +161,7 @@ class Telling(unittest.TestCase):
     def test_a_row_of_noughts_bears_no_weight(self):
         random = Random(162)
         for turn in range(10):
-            rows = made(random, 4, 2, small) + [[0, 0]]
+            rows = made_rows(random, 4, 2, small) + [[0, 0]]
             combination = [sum(row[k] for row in rows) for k in range(2)]
             self.assert_told(rows, combination)
             self.assertEqual(telling(rows, combination)[1][4], (0, 1))
@@ -234,21 +181,21 @@ class Telling(unittest.TestCase):
     def test_greatest_tables(self):
         random = Random(163)
         for number in (signs, long):
-            rows = made(random, 150, 12, number)
+            rows = made_rows(random, 150, 12, number)
             answer = telling(rows, [number(random) for column in range(12)])
             self.assertEqual(answer[0], "told")
             self.assert_fractions(answer[1], 150)
-        rows = made(random, 150, 12, signs)
+        rows = made_rows(random, 150, 12, signs)
         combination = [small(random) for column in range(12)]
         weights = [exact(number) for number in telling(rows, combination)[1]]
         self.assertEqual([dot(weights, column) for column in laid_over(rows)], combination)
         # Weights are of the least spread just where they are sums of multiples of the columns.
-        worths = made(random, 1, 12, small)[0]
+        worths = made_rows(random, 1, 12, small)[0]
         sums = [sum(a * b for a, b in zip(row, worths)) for row in rows]
         turned = [sum(a * b for a, b in zip(sums, column)) for column in laid_over(rows)]
         self.assertEqual(telling(rows, turned), ("told", [(number, 1) for number in sums]))
         self.assert_hidden([row[:11] + [row[0] + row[5]] for row in rows], [0] * 11 + [1])
-        self.assert_hidden(made(random, 11, 12, long), made(random, 1, 12, long)[0])
+        self.assert_hidden(made_rows(random, 11, 12, long), made_rows(random, 1, 12, long)[0])
 
 
 class Spread(unittest.TestCase):
