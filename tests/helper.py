@@ -232,3 +232,41 @@ def summed_determinant(rows):
             product *= row[column]
         total += product
     return total
+
+
+def plain_rank(rows):
+    return len([row for row in plainly_reduced([[Fraction(n) for n in row] for row in rows]) if any(row)])
+
+
+def less_its_parts(numbers, upright):
+    """What stays of the numbers beside lists that stand at right angles to one another."""
+    stays = [Fraction(number) for number in numbers]
+    for other in upright:
+        factor = dot(numbers, other) / dot(other, other)
+        stays = [a - factor * b for a, b in zip(stays, other)]
+    return stays
+
+
+def plainly_left(rows, results):
+    upright = []
+    for column in laid_over(rows):
+        own = less_its_parts(column, upright)
+        if any(own):
+            upright.append(own)
+    return less_its_parts(results, upright)
+
+
+def plain_square(numbers):
+    return dot(numbers, numbers)
+
+
+def plain_fitted_square(levels, plan, model, results):
+    """The square of what is fitted with all of these effects; of none, nothing is."""
+    if not model:
+        return Fraction(0)
+    left = plainly_left(plain_table(levels, plan, model), results)
+    return plain_square([result - number for result, number in zip(results, left)])
+
+
+def any_plan(random, levels, count):
+    return [tuple(random.randrange(steps) for steps in levels) for trial in range(count)]

@@ -7,35 +7,13 @@ from itertools import permutations
 from random import Random
 
 from helper import (
-    FractionCase, dot, exact, full, is_fraction, laid_over, long, made_rows, plain_table, signs, small, told,
-    whole_of_rank, whole_tables,
+    FractionCase, dot, exact, full, is_fraction, laid_over, long, made_rows, plain_fitted_square, plain_square,
+    plain_table, plainly_left, signs, small, told, whole_of_rank, whole_tables,
 )
 from trialfield.fits import fit, squares
 
 THINGS = [(), (0,), (1,), (2,)]
 PAIRS = THINGS + [(0, 1), (0, 2), (1, 2)]
-
-
-def less_its_parts(numbers, upright):
-    """What stays of the numbers beside lists that stand at right angles to one another."""
-    stays = [Fraction(number) for number in numbers]
-    for other in upright:
-        factor = dot(numbers, other) / dot(other, other)
-        stays = [a - factor * b for a, b in zip(stays, other)]
-    return stays
-
-
-def plainly_left(rows, results):
-    upright = []
-    for column in laid_over(rows):
-        own = less_its_parts(column, upright)
-        if any(own):
-            upright.append(own)
-    return less_its_parts(results, upright)
-
-
-def plain_square(numbers):
-    return dot(numbers, numbers)
 
 
 def some_results(random, rows):
@@ -157,17 +135,11 @@ class Squares(unittest.TestCase):
             self.assertGreaterEqual(part[1][0], 0)
         self.assertEqual(sum(exact(square) for name, square in answer), sum(n * n for n in results))
         for place in range(len(model)):
-            self.assertEqual(exact(answer[place][1]), self.square_with(levels, plan, model[:place + 1], results)
-                             - self.square_with(levels, plan, model[:place], results))
+            self.assertEqual(exact(answer[place][1]), plain_fitted_square(levels, plan, model[:place + 1], results)
+                             - plain_fitted_square(levels, plan, model[:place], results))
         left = plainly_left(plain_table(levels, plan, model), results)
         self.assertEqual(answer[-1], ("left", told(plain_square(left))))
         return answer
-
-    def square_with(self, levels, plan, model, results):
-        if not model:
-            return Fraction(0)
-        left = plainly_left(plain_table(levels, plan, model), results)
-        return plain_square([result - number for result, number in zip(results, left)])
 
     def test_examples(self):
         plan = [(0, 0), (0, 1), (1, 0), (1, 1)]

@@ -5,14 +5,18 @@ from copy import deepcopy
 
 from helper import many_tables
 from trialfield.arrays import doubled, is_right, mirrored, of_prime, plan_of, spun
-from trialfield.errors import NoEffect
+from trialfield.best import best, worth
+from trialfield.desk import Desk
+from trialfield.errors import NoEffect, NoText
 from trialfield.fits import fit, squares
+from trialfield.latin import is_square, plan_of_squares, prime_squares, product, right_angles
 from trialfield.models import columns_of, table_of
 from trialfield.plans import all_trials, even_to, least_trials
 from trialfield.quick import results_of, sums_of
 from trialfield.sorts import other_side, pairs_told, turned
 from trialfield.tables import determinant, rank, reduced, solved
 from trialfield.telling import spread, telling
+from trialfield.texts import read_model, read_plan, show_fractions, show_model, show_plan
 from trialfield.words import block_of, comes_to, cut, hides, least_word, lost, span
 
 
@@ -127,9 +131,40 @@ def asked_of_sorts():
     return asked + [(pairs_told, (1, [(0,)])), (turned, (1, [(0,)]))]
 
 
+def asked_of_latin():
+    asked = [(prime_squares, (p,)) for p in (2, 3, 5, 7)]
+    squares_of = {1: [[[0]], [[0]]], 2: prime_squares(2), 3: prime_squares(3), 5: prime_squares(5)}
+    for n, some in squares_of.items():
+        asked += [(is_square, (some[0],)), (right_angles, (some[0], some[-1])), (right_angles, (some[0], some[0]))]
+        asked += [(plan_of_squares, (n, some[:count])) for count in range(len(some) + 1)]
+        asked += [(product, (some[0], other[-1])) for other in squares_of.values()]
+        # A square that is handed in more than once.
+        asked += [(product, (some[0], some[0])), (plan_of_squares, (n, [some[0], some[0]]))]
+    return asked + [(is_square, (rows,)) for rows in ([[1]], [[]], [[0, 1], [0, 1]], [[0, 1], [1]], [[0, 1]])]
+
+
+def asked_of_best():
+    asked = []
+    trials = all_trials([2, 3])
+    for model in ([()], [(0,)], [(1,), (), (0,)]):
+        asked += [(worth, ([2, 3], plan, model)) for plan in (trials, trials[:1], trials * 2)]
+        # With all of the trials chosen the answer could be the very list.
+        asked += [(best, ([2, 3], trials, model, many)) for many in range(1, 7)]
+    return asked
+
+
+def asked_of_texts():
+    asked = [(read_plan, (text,)) for text in ("0", "0 1; 1 2", "1; 1; 1")]
+    asked += [(read_model, (text,)) for text in ("mean", "0", "mean, 0, 0 1")]
+    asked += [(show_plan, (plan,)) for plan in ([(0,)], [(0, 1), (4, 4)])]
+    asked += [(show_model, (model,)) for model in ([()], [(0, 1), (), (2,)])]
+    return asked + [(show_fractions, (numbers,)) for numbers in ([(0, 1)], [(1, 2), (-3, 1)])]
+
+
 def all_asked():
     asked = asked_of_tables() + asked_of_plans() + asked_of_words() + asked_of_models() + asked_of_telling()
-    return asked + asked_of_fits() + asked_of_quick() + asked_of_arrays() + asked_of_sorts()
+    asked += asked_of_fits() + asked_of_quick() + asked_of_arrays() + asked_of_sorts() + asked_of_latin()
+    return asked + asked_of_best() + asked_of_texts()
 
 
 class Own(unittest.TestCase):
@@ -144,6 +179,12 @@ class Own(unittest.TestCase):
         with self.assertRaises(NoEffect):
             hides(2, words, (1, 0, 1))
         self.assertEqual(words, [(1, 1, 0), (0, 1, 1)])
+        lists = [["0"], [(0,)], []]
+        for handed in lists:
+            for read in (read_plan, read_model):
+                with self.assertRaises(NoText):
+                    read(handed)
+        self.assertEqual(lists, [["0"], [(0,)], []])
 
     def test_no_list_given_was_handed_in_or_is_given_twice(self):
         for function, handed in all_asked():
@@ -171,6 +212,41 @@ class Own(unittest.TestCase):
             kept = deepcopy(given)
             spoil(copied)
             self.assertEqual(given, kept)
+
+
+class OwnOfDesks(unittest.TestCase):
+    ROWS = ["things 2 3", "full", "model mean, 0, 1", "results 1 2 3 4 5 9", "even 2", "told 1", "squares"]
+    ANSWERS = ["ok"] * 4 + ["yes", "yes", "mean 96, 0 24, 1 13, left 3"]
+
+    def test_the_rows_stay_the_same(self):
+        rows = list(self.ROWS)
+        desk = Desk()
+        self.assertEqual([desk.say(row) for row in rows], self.ANSWERS)
+        self.assertEqual(rows, self.ROWS)
+
+    def test_what_others_were_given_is_nothing_that_a_desk_keeps(self):
+        desk = Desk()
+        for row in self.ROWS[:4]:
+            desk.say(row)
+        levels, plan, model = [2, 3], all_trials([2, 3]), read_model("mean, 0, 1")
+        given = [columns_of(levels, model), table_of(levels, plan, model), squares(levels, plan, model, [7] * 6)]
+        given += [levels, plan, model, read_plan("0 0; 0 1")]
+        for value in given:
+            spoil(value)
+        self.assertEqual([desk.say(row) for row in self.ROWS[4:]], self.ANSWERS[4:])
+        self.assertEqual(read_model("mean, 0, 1"), [(), (0,), (1,)])
+
+    def test_a_desk_changes_no_other_answer(self):
+        before = [function(*handed) for function, handed in asked_of_texts() + asked_of_plans()]
+        desk = Desk()
+        self.assertEqual([desk.say(row) for row in self.ROWS], self.ANSWERS)
+        self.assertEqual([function(*handed) for function, handed in asked_of_texts() + asked_of_plans()], before)
+
+    def test_the_same_rows_are_answered_the_same(self):
+        for turn in range(3):
+            desk = Desk()
+            for again in range(3):
+                self.assertEqual([desk.say(row) for row in self.ROWS], self.ANSWERS)
 
 
 if __name__ == "__main__":

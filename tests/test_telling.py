@@ -7,8 +7,8 @@ from itertools import combinations
 from random import Random
 
 from helper import (
-    FractionCase, dot, exact, is_fraction, laid_over, lead_of, long, long_fraction, made_rows, plainly_reduced, signs,
-    small, told, whole_tables,
+    FractionCase, dot, exact, is_fraction, laid_over, lead_of, long, long_fraction, made_rows, plain_rank,
+    plainly_reduced, signs, small, told, whole_tables,
 )
 from trialfield.models import table_of
 from trialfield.plans import all_trials
@@ -40,10 +40,6 @@ def combinations_for(random, rows):
     factors = [small(random) for row in rows]
     asked.append([sum(f * row[k] for f, row in zip(factors, rows)) for k in range(width)])
     return asked
-
-
-def plain_rank(rows):
-    return len([row for row in plainly_reduced([[Fraction(n) for n in row] for row in rows]) if any(row)])
 
 
 def of_no_sum(rows):

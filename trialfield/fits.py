@@ -9,9 +9,8 @@ from trialfield.telling import as_fractions, column_products, spread, sum_of_pro
 # What is left stands at right angles to all columns just where the columns' products, times the
 # worths, come to the columns' sums with the results. There are always worths that do so.
 def fit(rows, results):
-    products = [as_fractions(row) for row in column_products(rows)]
     sums = [sum_of_products(column, results) for column in laid_over(rows)]
-    worths = solved(products, as_fractions(sums))[1]
+    worths = solved(column_products(rows), as_fractions(sums))[1]
     fitted = sums_with(rows, worths)
     left = [minus(result, number) for result, number in zip(as_fractions(results), fitted)]
     return (worths, fitted, left)

@@ -12,10 +12,10 @@ def as_fractions(numbers):
     return [(number, 1) for number in numbers]
 
 
-# In row i and column j the sum of products of the columns i and j of the rows.
+# A table: in row i and column j the sum of products of the columns i and j of the rows.
 def column_products(rows):
     columns = laid_over(rows)
-    return [[sum_of_products(one, other) for other in columns] for one in columns]
+    return [as_fractions([sum_of_products(one, other) for other in columns]) for one in columns]
 
 
 # Each row's sum of products with the fractions, over their common bottom: so a fraction is
@@ -31,8 +31,7 @@ def sums_with(rows, fractions):
 # A y that makes nought of the products of all columns makes nought of each row too, as the sum
 # of squares of what it makes of the rows is nought.
 def telling(rows, combination):
-    table = [as_fractions(row) for row in column_products(rows)]
-    answer = solved(table, as_fractions(combination))
+    answer = solved(column_products(rows), as_fractions(combination))
     if answer[0] == "found":
         return ("told", sums_with(rows, answer[1]))
     return ("hidden", answer[1], [NOUGHT] * len(combination))
